@@ -1,0 +1,1 @@
+"""Maskwright: chips' drawings made, looked through, and what they do."""
