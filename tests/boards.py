@@ -84,3 +84,13 @@ def odd_things():
         ([],), within(0, 7), within((), 7), within("ab", 7), [within([], 6)], ((0, 1), (2, 3)), (0, 1, ((0, 1),)),
         tuple(range(2999)), [0] * 2999, "x" * 3000,
     ]
+
+
+def turned_place(place, turn, dx, dy):
+    """A place turned and then moved, step by step by point 10's two examples."""
+    x, y = place
+    if turn >= 4:
+        x, y = -x - 1, y
+    for _ in range(turn % 4):
+        x, y = -y - 1, x
+    return (x + dx, y + dy)

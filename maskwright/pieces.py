@@ -1,0 +1,56 @@
+"""The pieces of a region: what hangs together by sides."""
+
+from maskwright.regions import joined
+
+
+def touching(above, below):
+    """The pairs of places in two rows, one right below the other, of stretches that touch."""
+    pairs = []
+    one = other = 0
+    while one < len(above) and other < len(below):
+        if above[one][0] < below[other][1] and below[other][0] < above[one][1]:
+            pairs.append((one, other))
+        if above[one][1] <= below[other][1]:
+            one += 1
+        else:
+            other += 1
+    return pairs
+
+
+def root_of(roots, number):
+    """The stretch that stands for all those that hang together with one."""
+    while roots[number] != number:
+        # Halving the way keeps later walks short.
+        roots[number] = roots[roots[number]]
+        number = roots[number]
+    return number
+
+
+def rooted(region):
+    """For each stretch, numbered in order, one that stands for all that hang together with it."""
+    roots = list(range(sum([len(row) for y0, y1, row in region])))
+    first = 0
+    for ahead, here in zip(region, region[1:]):
+        next_first = first + len(ahead[2])
+        if ahead[1] == here[0]:
+            for one, other in touching(ahead[2], here[2]):
+                root = root_of(roots, first + one)
+                roots[root_of(roots, next_first + other)] = root
+        first = next_first
+    return [root_of(roots, number) for number in range(len(roots))]
+
+
+def pieces(region):
+    """The pieces of a region, by their first places."""
+    roots = rooted(region)
+    # Pieces come up here by their first stretches, and these are in the order of first places.
+    bands = {}
+    first = 0
+    for y0, y1, row in region:
+        parts = {}
+        for stretch, root in zip(row, roots[first:first + len(row)]):
+            parts.setdefault(root, []).append(stretch)
+        for root in parts:
+            bands.setdefault(root, []).append((y0, y1, tuple(parts[root])))
+        first += len(row)
+    return [joined(bands[root]) for root in bands]
