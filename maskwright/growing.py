@@ -4,13 +4,18 @@ from maskwright.mixing import less
 from maskwright.regions import stacked
 
 
-def grown(region, k):
-    """The region of all places that are at most k from a place of a region."""
+def spread(region, low, high):
+    """The region of all places that are at most low below and high above a place of a region, in x and in y."""
     bands = []
     for y0, y1, row in region:
-        wider = tuple([(x0 - k, x1 + k) for x0, x1 in row])
-        bands.append((y0 - k, y1 + k, wider))
+        wider = tuple([(x0 - low, x1 + high) for x0, x1 in row])
+        bands.append((y0 - low, y1 + high, wider))
     return stacked(bands)
+
+
+def grown(region, k):
+    """The region of all places that are at most k from a place of a region."""
+    return spread(region, k, k)
 
 
 def frame(region, k):

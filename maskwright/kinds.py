@@ -4,9 +4,14 @@ LETTERS = "abcdefghijklmnopqrstuvwxyz"
 LONGEST_NAME = 8
 
 
+def is_whole(thing):
+    """Whether a thing is a whole number; truths are none."""
+    return isinstance(thing, int) and not isinstance(thing, bool)
+
+
 def is_whole_from(thing, least, most):
-    """Whether a thing is a whole number from least to most; truths are none."""
-    return isinstance(thing, int) and not isinstance(thing, bool) and least <= thing <= most
+    """Whether a thing is a whole number from least to most."""
+    return is_whole(thing) and least <= thing <= most
 
 
 def is_tuple_of(thing, many):

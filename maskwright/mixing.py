@@ -1,6 +1,6 @@
 """Two regions put together, and how great one is."""
 
-from maskwright.regions import joined, paired
+from maskwright.regions import joined, paired, parts_in
 
 # A place counts 1 where the first region has it, and 2 where the second one has it.
 IN_ONE = 1
@@ -69,6 +69,23 @@ def row_long(row):
 def area(region):
     """How many places a region has."""
     return sum([(y1 - y0) * row_long(row) for y0, y1, row in region])
+
+
+def area_in(region, rect):
+    """How many places of a rectangle a region has."""
+    left, low, right, high = rect
+    total = 0
+    for band, stretch in parts_in(region, rect):
+        y0, y1, row = region[band]
+        x0, x1 = row[stretch]
+        total += (min(x1, right) - max(x0, left)) * (min(y1, high) - max(y0, low))
+    return total
+
+
+def fills(region, rect):
+    """Whether a region has all places of a rectangle."""
+    x0, y0, x1, y1 = rect
+    return area_in(region, rect) == (x1 - x0) * (y1 - y0)
 
 
 def rim(region):

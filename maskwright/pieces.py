@@ -40,17 +40,26 @@ def rooted(region):
     return [root_of(roots, number) for number in range(len(roots))]
 
 
-def pieces(region):
-    """The pieces of a region, by their first places."""
+def numbered(region):
+    """For each band a list with the numbers of its stretches' pieces, by the pieces' first places."""
     roots = rooted(region)
     # Pieces come up here by their first stretches, and these are in the order of first places.
-    bands = {}
+    numbers = {}
+    rows = []
     first = 0
     for y0, y1, row in region:
-        parts = {}
-        for stretch, root in zip(row, roots[first:first + len(row)]):
-            parts.setdefault(root, []).append(stretch)
-        for root in parts:
-            bands.setdefault(root, []).append((y0, y1, tuple(parts[root])))
+        rows.append([numbers.setdefault(root, len(numbers)) for root in roots[first:first + len(row)]])
         first += len(row)
-    return [joined(bands[root]) for root in bands]
+    return rows
+
+
+def pieces(region):
+    """The pieces of a region, by their first places."""
+    bands = {}
+    for (y0, y1, row), numbers in zip(region, numbered(region)):
+        parts = {}
+        for stretch, number in zip(row, numbers):
+            parts.setdefault(number, []).append(stretch)
+        for number in parts:
+            bands.setdefault(number, []).append((y0, y1, tuple(parts[number])))
+    return [joined(bands[number]) for number in bands]

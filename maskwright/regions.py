@@ -71,20 +71,20 @@ def add_steps(steps, stretches, more):
                 del steps[x]
 
 
-def covered(steps):
-    """The stretches over which the steps, added up from the left, are not 0."""
+def covered(steps, least):
+    """The stretches over which the steps, added up from the left, are at least so many."""
     edges = []
     deep = 0
     for x in sorted(steps):
         ahead = deep
         deep += steps[x]
-        if (ahead == 0) != (deep == 0):
+        if (ahead < least) != (deep < least):
             edges.append(x)
     return paired(edges)
 
 
-def stacked(bands):
-    """The region of the places of all bands, in any order, which may lie over one another."""
+def stacked(bands, least=1):
+    """The region of the places that at least so many bands have, in any order, over one another or not."""
     changes = {}
     for y0, y1, stretches in bands:
         changes.setdefault(y0, []).append((stretches, 1))
@@ -95,7 +95,7 @@ def stacked(bands):
     for y in cuts:
         for stretches, more in changes[y]:
             add_steps(steps, stretches, more)
-        rows.append(covered(steps))
+        rows.append(covered(steps, least))
     return joined(list(zip(cuts, cuts[1:], rows)))
 
 
@@ -123,3 +123,44 @@ def first_place(region):
         return None
     y0, y1, stretches = region[0]
     return (stretches[0][0], y0)
+
+
+def only_rect(region):
+    """The rectangle that a region is, or None where it is none."""
+    rects = rects_of(region)
+    return rects[0] if len(rects) == 1 else None
+
+
+def rows_behind(rect, deep):
+    """The rectangles of so many rows of places behind a rectangle's sides: the two pairs of opposite ones."""
+    x0, y0, x1, y1 = rect
+    upright = ((x0 - deep, y0, x0, y1), (x1, y0, x1 + deep, y1))
+    lying = ((x0, y0 - deep, x1, y0), (x0, y1, x1, y1 + deep))
+    return (upright, lying)
+
+
+def first_behind(spans, at):
+    """The number of the first one of rising bands, or of rising stretches, that ends behind a number."""
+    low, high = 0, len(spans)
+    while low < high:
+        middle = (low + high) // 2
+        if spans[middle][1] > at:
+            high = middle
+        else:
+            low = middle + 1
+    return low
+
+
+def parts_in(region, rect):
+    """The stretches of a region that have places in a rectangle: tuples of a band's and a stretch's number."""
+    x0, y0, x1, y1 = rect
+    parts = []
+    band = first_behind(region, y0)
+    while band < len(region) and region[band][0] < y1:
+        row = region[band][2]
+        stretch = first_behind(row, x0)
+        while stretch < len(row) and row[stretch][0] < x1:
+            parts.append((band, stretch))
+            stretch += 1
+        band += 1
+    return parts

@@ -94,3 +94,68 @@ def turned_place(place, turn, dx, dy):
     for _ in range(turn % 4):
         x, y = -y - 1, x
     return (x + dx, y + dy)
+
+
+def reached(places, start):
+    """The places to which touching ones lead from a start, place by place."""
+    found, todo = {start}, [start]
+    while todo:
+        x, y = todo.pop()
+        for spot in ((x + 1, y), (x - 1, y), (x, y + 1), (x, y - 1)):
+            if spot in places and spot not in found:
+                found.add(spot)
+                todo.append(spot)
+    return found
+
+
+def pieces_by_places(places):
+    """The pieces of a set of places, by their first places: a list of sets."""
+    told, left = [], set(places)
+    for y, x in sorted((y, x) for x, y in places):
+        if (x, y) in left:
+            piece = reached(places, (x, y))
+            left -= piece
+            told.append(piece)
+    return told
+
+
+def by_order(places):
+    """Places in their order: by y, then x."""
+    return sorted(places, key=lambda place: (place[1], place[0]))
+
+
+def is_full_rect(places):
+    """Whether a set of places is all of one rectangle."""
+    xs, ys = {x for x, y in places}, {y for x, y in places}
+    return len(places) == (max(xs) - min(xs) + 1) * (max(ys) - min(ys) + 1)
+
+
+def rows_behind_sides(places, deep):
+    """The rows of places behind the left, right, lower and upper side of a full rectangle: two pairs of sets."""
+    x0, x1 = min(x for x, y in places), max(x for x, y in places)
+    y0, y1 = min(y for x, y in places), max(y for x, y in places)
+    steps = range(1, deep + 1)
+    left = {(x0 - step, y) for step in steps for y in range(y0, y1 + 1)}
+    right = {(x1 + step, y) for step in steps for y in range(y0, y1 + 1)}
+    low = {(x, y0 - step) for step in steps for x in range(x0, x1 + 1)}
+    high = {(x, y1 + step) for step in steps for x in range(x0, x1 + 1)}
+    return (left, right), (low, high)
+
+
+LAYERS = "npgwvk"
+
+
+def sheet_of(marks=(), **layers):
+    """A sheet with some layers' regions, the others bare."""
+    return (tuple(layers.get(layer, ()) for layer in LAYERS), tuple(sorted(marks)))
+
+
+def sheet_of_rects(*rects, marks=()):
+    """A sheet of rectangles (layer, x0, y0, x1, y1)."""
+    layers = {layer: region_of(places_of_rects([rect[1:] for rect in rects if rect[0] == layer])) for layer in LAYERS}
+    return sheet_of(marks, **layers)
+
+
+def layer_places(sheet):
+    """The set of each layer's places of a sheet."""
+    return {layer: places_of(some) for layer, some in zip(LAYERS, sheet[0])}

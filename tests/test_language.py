@@ -190,6 +190,7 @@ class TestCode(unittest.TestCase):
                     self.assertEqual(sorted(set(bound_in(node)) & taken), [], (path.name, node.name))
 
     def test_builtins_and_methods(self):
+        own = {part.name for where, node in nodes(ast.ClassDef) for part in node.body if not is_words(part)}
         for path in files():
             tree = tree_of(path)
             known = BUILTINS | {name for statement in tree.body for name in bound_by(statement)}
@@ -200,7 +201,7 @@ class TestCode(unittest.TestCase):
                 if isinstance(node, ast.Name):
                     self.assertIn(node.id, known, (path.name, node.lineno))
                 if isinstance(node, ast.Call) and isinstance(node.func, ast.Attribute):
-                    self.assertIn(node.func.attr, METHODS, (path.name, node.lineno))
+                    self.assertIn(node.func.attr, METHODS | own, (path.name, node.lineno))
 
 
 if __name__ == "__main__":

@@ -4,32 +4,9 @@ import unittest
 
 from maskwright.pieces import pieces
 from maskwright.regions import first_place, is_region, region
-from tests.boards import board, places_of, region_of, some_places
+from tests.boards import board, pieces_by_places, places_of, region_of, some_places
 
 EDGE = 2 ** 20
-
-
-def reached(places, start):
-    """The places to which touching ones lead from a start, place by place."""
-    found, todo = {start}, [start]
-    while todo:
-        x, y = todo.pop()
-        for spot in ((x + 1, y), (x - 1, y), (x, y + 1), (x, y - 1)):
-            if spot in places and spot not in found:
-                found.add(spot)
-                todo.append(spot)
-    return found
-
-
-def pieces_by_places(places):
-    """The pieces by their first places, place by place."""
-    told, left = [], set(places)
-    for y, x in sorted((y, x) for x, y in places):
-        if (x, y) in left:
-            piece = reached(places, (x, y))
-            left -= piece
-            told.append(region_of(piece))
-    return told
 
 
 class TestPieces(unittest.TestCase):
@@ -37,7 +14,7 @@ class TestPieces(unittest.TestCase):
         told = pieces(some)
         self.assertIsInstance(told, list)
         self.assertTrue(all(is_region(piece) for piece in told))
-        self.assertEqual(told, pieces_by_places(places_of(some)))
+        self.assertEqual(told, [region_of(piece) for piece in pieces_by_places(places_of(some))])
         return told
 
     def test_none_and_one(self):
