@@ -71,17 +71,16 @@ def inner_nets(names, switches):
 
 
 def are_in_row(one, other):
-    """Whether two switches with an end in common may become one behind another."""
-    if one[:2] != other[:2] or one[4] != other[4]:
-        return False
-    return one[2] != one[3] and other[2] != other[3] and one[2:4] != other[2:4]
+    """Whether the two switches of an inner net may become one behind another."""
+    # An inner net is one end of each of two; where it is both ends of one switch, that stands here twice.
+    return one[:2] == other[:2] and one[4] == other[4] and one[2:4] != other[2:4]
 
 
 def next_in_row(names, switches):
     """For each switch's number those of later ones with which it can become one behind another."""
     following = {}
     for low, high in inner_nets(names, switches).values():
-        if low < high and are_in_row(switches[low], switches[high]):
+        if are_in_row(switches[low], switches[high]):
             following.setdefault(low, []).append(high)
     return following
 

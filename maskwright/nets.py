@@ -43,7 +43,7 @@ class Plan:
         return [rows[band][stretch] for band, stretch in parts_in(self.regions[layer], rect)]
 
     def met(self, contacts):
-        """For each piece of the contacts the rising numbers of the conductors of which it has places."""
+        """For each piece of the contacts a list of the numbers of the conductors of which it has places."""
         groups = {}
         numbers = [number for row in numbered(contacts) for number in row]
         for number, rect in zip(numbers, rects_of(contacts)):
@@ -51,7 +51,7 @@ class Plan:
             for layer in CONDUCTING:
                 for conductor in self.within(layer, rect):
                     group[conductor] = True
-        return [sorted(groups[number]) for number in groups]
+        return [list(groups[number]) for number in groups]
 
     def joined_groups(self):
         """The nets: a list of tuples of rising numbers of conductors, by their least ones."""

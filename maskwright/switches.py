@@ -70,4 +70,5 @@ def faults(sheet):
         names_of.setdefault(net, []).append(name)
     split = [name for name in nets_of if len(nets_of[name]) > 1]
     short = [tuple(names_of[net]) for net in names_of if len(names_of[net]) > 1]
-    return (tuple(sorted(loose)), tuple(sorted(split)), tuple(sorted(short)))
+    # Marks and names come sorted; which of two nets stands ahead says nothing of their names.
+    return (tuple(loose), tuple(split), tuple(sorted(short)))

@@ -44,6 +44,15 @@ class TestIsRegion(unittest.TestCase):
         self.told(((0, 1, ((1, 1),)),), False)
         self.told(((0, 1, ((2, 1),)),), False)
 
+    def test_each_stretch_and_each_band_is_looked_at(self):
+        for wrong in ((5, 5), (6, 5), (5, FAR + 1), (5, True), (5,), (5, 6, 7), [5, 6], "56", 5, None, ()):
+            self.told(((0, 1, ((0, 1), wrong)),), False)
+            self.told(((0, 1, ((0, 1), (3, 4), wrong, (8, 9))),), False)
+            self.told(((0, 1, ((0, 1),)), (2, 3, (wrong,)), (4, 5, ((0, 1),))), False)
+        for wrong in ((2, 2, ((0, 1),)), (2, 3, ()), (2, 3), [2, 3, ((0, 1),)], (2, True, ((0, 1),)), None, ()):
+            self.told(((0, 1, ((0, 1),)), wrong), False)
+            self.told(((0, 1, ((0, 1),)), wrong, (4, 5, ((0, 1),))), False)
+
     def test_stretches_that_touch_or_go_back(self):
         self.told(((0, 1, ((0, 1), (1, 2))),), False)
         self.told(((0, 1, ((0, 3), (2, 5))),), False)

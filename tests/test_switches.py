@@ -288,6 +288,10 @@ class TestFaults(Switches):
         sheet = sheet_of(marks, w=board("##.##.#"))
         self.told_faults(sheet, (), (), (("a", "b", "e"), ("c", "d")))
 
+    def test_nets_of_two_names_are_sorted_by_all_of_them(self):
+        marks = [(name, "w", x, 0) for name, x in (("a", 0), ("c", 0), ("a", 2), ("b", 2), ("a", 4), ("b", 4), ("d", 4))]
+        self.told_faults(sheet_of(marks, w=board("#.#.#")), (), ("a", "b"), (("a", "b"), ("a", "b", "d"), ("a", "c")))
+
     def test_a_tuple_of_names_for_each_net(self):
         marks = [(name, "w", x, 0) for name in "ba" for x in (0, 2)]
         self.told_faults(sheet_of(marks, w=board("#.#")), (), ("a", "b"), (("a", "b"), ("a", "b")))
