@@ -13,6 +13,9 @@ FAR_PLACE = 2 ** 20
 FAR_MOVE = 2 ** 16
 LAST_TURN = 7
 
+# What stands in a cell behind its name, each in a tuple of its own.
+PARTS = ("rect", "mark", "use")
+
 MOST_CELLS = 12
 MOST_RECTS = 200
 MOST_MARKS = 40
@@ -72,6 +75,35 @@ def is_house(thing):
             return False
         ahead[cell[0]] = True
     return True
+
+
+def with_cell(house, cell):
+    """A house with a cell put behind the others, or None where it can't have it."""
+    ahead = {own[0]: True for own in house}
+    if len(house) == MOST_CELLS or not is_cell(cell, ahead):
+        return None
+    return house + (cell,)
+
+
+def is_part(word, thing, ahead):
+    """Whether a thing is a rect, mark or use, as a word says; a use of a cell whose name is one of a dict's keys."""
+    if word == "rect":
+        return is_rect(thing)
+    return is_mark(thing) if word == "mark" else is_use(thing, ahead)
+
+
+def with_part(house, word, part):
+    """A house with a rect, mark or use put behind those of its last cell, or None where it can't have it."""
+    if not house:
+        return None
+    place = PARTS.index(word)
+    bounds = (MOST_RECTS, MOST_MARKS, MOST_USES)
+    last = list(house[-1])
+    ahead = {cell[0]: True for cell in house[:-1]}
+    if len(last[place + 1]) == bounds[place] or not is_part(word, part, ahead):
+        return None
+    last[place + 1] += (part,)
+    return house[:-1] + (tuple(last),)
 
 
 def counted(house):
