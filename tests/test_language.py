@@ -160,6 +160,28 @@ class TestCode(unittest.TestCase):
             for statement in node.body:
                 self.assertTrue(isinstance(statement, ast.FunctionDef) or is_words(statement), where)
 
+    def test_no_name_is_a_method_and_an_attribute(self):
+        methods = {part.name for where, node in nodes(ast.ClassDef) for part in node.body if not is_words(part)}
+        attributes = [(where, node) for where, node in nodes(ast.Attribute)]
+        assigned = {node.attr for where, node in attributes if isinstance(node.ctx, ast.Store)}
+        self.assertEqual(methods & assigned, set())
+        for where, node in attributes:
+            self.assertIn(node.attr, methods | assigned | METHODS, where)
+
+    def test_lists_and_dicts_at_module_level_are_only_read(self):
+        for path in files():
+            tree = tree_of(path)
+            tables = [node for node in tree.body if isinstance(node, ast.Assign) and isinstance(node.value, (ast.List, ast.Dict))]
+            names = {name for node in tables for name in bound_by(node)}
+            for node in tables:
+                inner = [part for part in ast.walk(node.value) if part is not node.value]
+                self.assertFalse([part for part in inner if isinstance(part, (ast.List, ast.Dict))], path.name)
+            good = [node.value for node in ast.walk(tree) if isinstance(node, ast.Subscript) and isinstance(node.ctx, ast.Load)]
+            good += [part for node in ast.walk(tree) if isinstance(node, ast.Compare) for part in node.comparators]
+            for node in ast.walk(tree):
+                if isinstance(node, ast.Name) and node.id in names and isinstance(node.ctx, ast.Load):
+                    self.assertTrue(any(node is part for part in good), (path.name, node.lineno))
+
     def test_is_stands_by_none_and_truths(self):
         for where, node in nodes(ast.Compare):
             for sign, thing in zip(node.ops, node.comparators):
